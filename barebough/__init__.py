@@ -1,0 +1,1 @@
+"""Barebough: two sides pluck a tree in any order of turns."""

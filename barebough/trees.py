@@ -1,0 +1,95 @@
+"""Trees of cells that are joined by links."""
+
+from barebough.errors import BadTree, LastCell, NotTip
+from barebough.pieces import branches_at, piece_sizes
+
+
+class Tree:
+    """A tree with the cells 0 to size-1. It never changes."""
+
+    def __init__(self, size, links):
+        self.size = size
+        self._near = _neighbour_lists(size, links)
+
+    def links(self):
+        """Return all links as tuples (lower cell, higher cell), in ascending order."""
+        return [(low, high) for low in range(self.size) for high in self._near[low] if low < high]
+
+    def neighbours(self, cell):
+        """Return the cells that a link joins to the cell."""
+        return list(self._near[cell])
+
+    def tips(self):
+        """Return the cells with at most one neighbour."""
+        return [cell for cell in range(self.size) if len(self._near[cell]) <= 1]
+
+    def branches(self, cell):
+        """Return the pieces that are left without the cell, by their neighbours of the cell."""
+        return branches_at(self._near, cell, [True] * self.size)
+
+    def sizes(self, cell):
+        """Return the size list of the cell."""
+        return piece_sizes(self.branches(cell))
+
+    def all_sizes(self):
+        """Return the size lists of all cells, in the order of the cells."""
+        return [self.sizes(cell) for cell in range(self.size)]
+
+    def path(self, start, end):
+        """Return the cells of the path from start to end, both included."""
+        # The walk begins at the end, so each cell learns its next one towards the end.
+        onward = {end: end}
+        waiting = [end]
+        while waiting:
+            cell = waiting.pop()
+            for other in self._near[cell]:
+                if other not in onward:
+                    onward[other] = cell
+                    waiting.append(other)
+        found = [start]
+        while found[-1] != end:
+            found.append(onward[found[-1]])
+        return found
+
+    def grafted(self, cell):
+        """Return the tree with one more cell, joined to the cell."""
+        return Tree(self.size + 1, self.links() + [(cell, self.size)])
+
+    def plucked(self, tip):
+        """Return the tree without the tip; greater cell numbers decrease by one."""
+        if self.size == 1:
+            raise LastCell(tip)
+        links = [(_closed_up(low, tip), _closed_up(high, tip)) for low, high in self._links_without(tip)]
+        return Tree(self.size - 1, links)
+
+    def moved(self, tip, cell):
+        """Return the tree in which the tip is joined to another cell; the numbers stay."""
+        return Tree(self.size, self._links_without(tip) + [(tip, cell)])
+
+    def _links_without(self, tip):
+        if len(self._near[tip]) > 1:
+            raise NotTip(tip)
+        return [(low, high) for low, high in self.links() if tip not in (low, high)]
+
+
+def _closed_up(cell, gone):
+    """Return the number of a cell after another one has been left out."""
+    return cell - 1 if cell > gone else cell
+
+
+def _neighbour_lists(size, links):
+    """Return the neighbours of every cell in ascending order, or raise BadTree."""
+    near = [[] for _ in range(size)]
+    # Two cells have the same mark exactly if the links so far join them by a path.
+    marks = list(range(size))
+    for index, (one, other) in enumerate(links):
+        if not (0 <= one < size and 0 <= other < size) or marks[one] == marks[other]:
+            raise BadTree(index)
+        old, new = marks[other], marks[one]
+        marks = [new if mark == old else mark for mark in marks]
+        near[one].append(other)
+        near[other].append(one)
+    # Each good link joins two pieces, so fewer than size-1 of them leave several.
+    if len(links) < size - 1:
+        raise BadTree(len(links))
+    return [sorted(cells) for cells in near]

@@ -1,0 +1,46 @@
+"""The interface: every name is defined in its own file, with the arguments that the document lists."""
+
+import importlib
+import inspect
+import unittest
+
+FUNCTIONS = {
+    "notation": ["format_tree(tree)", "parse_tree(text)"],
+}
+
+CLASSES = {
+    "trees.Tree": ["__init__(self, size, links)", "links(self)", "neighbours(self, cell)", "tips(self)",
+                   "branches(self, cell)", "sizes(self, cell)", "all_sizes(self)", "path(self, start, end)",
+                   "grafted(self, cell)", "plucked(self, tip)", "moved(self, tip, cell)"],
+    "boards.Board": ["__init__(self, tree)", "live(self)", "tips(self)", "is_live(self, cell)",
+                     "branches(self, cell)", "sizes(self, cell)", "pluck(self, cell)", "restore(self)",
+                     "plucked(self)"],
+}
+
+
+class Interface(unittest.TestCase):
+    def check(self, holder, listed, module):
+        name = listed.partition("(")[0]
+        function = vars(holder)[name]
+        self.assertTrue(inspect.isfunction(function), listed)
+        self.assertEqual(function.__module__, module, listed)
+        self.assertEqual(name + str(inspect.signature(function)), listed)
+
+    def test_functions(self):
+        for file, functions in FUNCTIONS.items():
+            module = importlib.import_module("barebough." + file)
+            for listed in functions:
+                self.check(module, listed, module.__name__)
+
+    def test_classes(self):
+        for place, methods in CLASSES.items():
+            file, _, name = place.partition(".")
+            module = importlib.import_module("barebough." + file)
+            holder = getattr(module, name)
+            self.assertEqual(holder.__module__, module.__name__, place)
+            for listed in methods:
+                self.check(holder, listed, module.__name__)
+
+
+if __name__ == "__main__":
+    unittest.main()

@@ -1,0 +1,193 @@
+"""The package keeps to the subset of Python that it is written in.
+
+These tests see those rules that a look at the syntax tree can settle. The numbers
+are those of the rules.
+"""
+
+import ast
+import builtins
+import re
+import unittest
+from pathlib import Path
+
+PACKAGE = Path(__file__).resolve().parent.parent / "barebough"
+LIBRARY = {"heapq", "math", "itertools", "collections"}
+BUILTINS = set(
+    "len range enumerate zip min max sum abs sorted reversed int str bool bytes list tuple dict set frozenset "
+    "isinstance ord repr any all divmod pow getattr hasattr setattr iter next map super property staticmethod "
+    "classmethod Exception ValueError TypeError KeyError IndexError LookupError ZeroDivisionError ArithmeticError "
+    "OverflowError RuntimeError NotImplementedError AttributeError StopIteration NotImplemented".split())
+METHODS = set(
+    "append clear copy count endswith extend find get index insert isalnum isalpha isdigit islower isspace isupper "
+    "items join keys ljust lower lstrip partition pop remove replace reverse rfind rjust rpartition rsplit rstrip "
+    "setdefault split splitlines startswith strip update upper values zfill bit_length title capitalize swapcase "
+    "casefold center expandtabs removeprefix removesuffix rindex isascii isdecimal isnumeric istitle isidentifier "
+    "isprintable add discard sort format __init__".split())
+UNUSED = set(
+    "register mro elements open input law version_info with_traceback add_note attrgetter breakpoint builtins "
+    "compile copyright credits delattr dir eval exec exit gc globals help id importlib license locals "
+    "methodcaller os quit type vars sys typing typing_extensions enum Enum IntEnum StrEnum Flag IntFlag Generic "
+    "Protocol ABC ABCMeta namedtuple NamedTuple TypedDict TYPE_CHECKING abstractmethod dataclass overload "
+    "contextmanager".split())
+STATEMENTS = (
+    ast.FunctionDef, ast.ClassDef, ast.Return, ast.Assign, ast.AugAssign, ast.AnnAssign, ast.If, ast.While, ast.For,
+    ast.Break, ast.Continue, ast.Pass, ast.Raise, ast.Assert, ast.Delete, ast.Nonlocal, ast.Match, ast.With, ast.Try,
+    ast.Expr, ast.Import, ast.ImportFrom)
+
+
+def files():
+    return sorted(PACKAGE.glob("*.py"))
+
+
+def tree_of(file):
+    return ast.parse(file.read_text(encoding="utf-8"))
+
+
+def bound_names(tree):
+    """Return the names that a file binds anywhere, as variables, parameters, functions, classes or imports."""
+    found = set()
+    for node in ast.walk(tree):
+        if isinstance(node, ast.Name) and isinstance(node.ctx, ast.Store):
+            found.add(node.id)
+        elif isinstance(node, ast.arg):
+            found.add(node.arg)
+        elif isinstance(node, (ast.FunctionDef, ast.ClassDef)):
+            found.add(node.name)
+        elif isinstance(node, (ast.Import, ast.ImportFrom)):
+            found.update(alias.asname or alias.name for alias in node.names)
+        elif isinstance(node, ast.ExceptHandler) and node.name:
+            found.add(node.name)
+    return found
+
+
+def method_names(tree):
+    return {node.name for holder in ast.walk(tree) if isinstance(holder, ast.ClassDef)
+            for node in holder.body if isinstance(node, ast.FunctionDef)}
+
+
+def imported_files(tree):
+    return [node.module.rpartition(".")[2] for node in tree.body
+            if isinstance(node, ast.ImportFrom) and node.module.startswith("barebough.")]
+
+
+class Files(unittest.TestCase):
+    def test_the_folder_holds_plain_files_alone(self):
+        """L1 and L14."""
+        for path in PACKAGE.iterdir():
+            if path.name != "__pycache__":
+                self.assertTrue(path.is_file() and re.fullmatch(r"(__init__|[a-z][a-z0-9_]*)\.py", path.name), path)
+        self.assertTrue((PACKAGE / "__init__.py").is_file())
+
+    def test_characters(self):
+        """L14 and L10: plain characters and line feeds, and no long lines."""
+        for file in files():
+            data = file.read_bytes()
+            self.assertTrue(all(32 <= byte <= 126 or byte == 10 for byte in data), file)
+            self.assertTrue(all(len(line) <= 120 for line in data.split(b"\n")), file)
+
+    def test_sizes(self):
+        """L10."""
+        for file in files():
+            self.assertLessEqual(len(file.read_text().splitlines()), 399, file)
+            for node in ast.walk(tree_of(file)):
+                if isinstance(node, ast.FunctionDef):
+                    self.assertLessEqual(node.end_lineno - node.lineno + 1, 40, (file, node.name))
+
+
+class Modules(unittest.TestCase):
+    def test_imports(self):
+        """L2 and L16: names from the very file that defines them, at the top of a file."""
+        for file in files():
+            tree = tree_of(file)
+            for node in ast.walk(tree):
+                self.assertNotIsInstance(node, ast.Import, file)
+                if isinstance(node, ast.ImportFrom):
+                    self.assertIn(node, tree.body, file)
+                    self.check_import(node, file)
+
+    def check_import(self, node, file):
+        self.assertEqual(node.level, 0, file)
+        if node.module in LIBRARY or node.module == "__future__":
+            return
+        self.assertTrue(re.fullmatch(r"barebough\.[a-z0-9_]+", node.module), (file, node.module))
+        source = tree_of(PACKAGE / (node.module.partition(".")[2] + ".py"))
+        defined = {part.name for part in source.body if isinstance(part, (ast.FunctionDef, ast.ClassDef))}
+        defined |= {part.targets[0].id for part in source.body if isinstance(part, ast.Assign)}
+        self.assertLessEqual({alias.name for alias in node.names}, defined, file)
+
+    def test_no_files_import_each_other(self):
+        """L16."""
+        needs = {file.stem: imported_files(tree_of(file)) for file in files()}
+        while needs:
+            ready = [name for name in needs if not any(other in needs for other in needs[name])]
+            self.assertTrue(ready, sorted(needs))
+            for name in ready:
+                del needs[name]
+
+    def test_module_level(self):
+        """L3: docstrings, imports, functions, classes and plain values."""
+        for file in files():
+            for node in tree_of(file).body:
+                plain = isinstance(node, (ast.ImportFrom, ast.FunctionDef, ast.ClassDef))
+                docstring = isinstance(node, ast.Expr) and isinstance(node.value, ast.Constant)
+                value = isinstance(node, ast.Assign) and not any(
+                    isinstance(part, ast.Call) for part in ast.walk(node.value))
+                self.assertTrue(plain or docstring or value, (file, node.lineno))
+
+    def test_defaults_are_plain(self):
+        """L4."""
+        for file in files():
+            for node in ast.walk(tree_of(file)):
+                if isinstance(node, ast.arguments):
+                    for default in node.defaults + [one for one in node.kw_defaults if one]:
+                        self.assertNotIsInstance(default, (ast.List, ast.Dict, ast.Call), (file, default.lineno))
+
+
+class Code(unittest.TestCase):
+    def test_statements_and_values(self):
+        """L6 and L7: no global, nothing async, no floats and no /."""
+        for file in files():
+            for node in ast.walk(tree_of(file)):
+                if isinstance(node, ast.stmt):
+                    self.assertIsInstance(node, STATEMENTS, (file, node.lineno))
+                self.assertNotIsInstance(node, (ast.Await, ast.Div, ast.MatMult), file)
+                if isinstance(node, ast.Constant):
+                    self.assertNotIsInstance(node.value, (float, complex), (file, node.lineno))
+
+    def test_builtins(self):
+        """L8 and L15: only the listed builtins, and no name that has the name of one."""
+        for file in files():
+            tree = tree_of(file)
+            bound = bound_names(tree)
+            read = {node.id for node in ast.walk(tree) if isinstance(node, ast.Name)}
+            self.assertLessEqual(read, bound | BUILTINS, file)
+            plain = bound - method_names(tree)
+            self.assertFalse({name for name in plain if hasattr(builtins, name)}, file)
+
+    def test_names(self):
+        """L12 and L17."""
+        for file in files():
+            tree = tree_of(file)
+            attributes = {node.attr for node in ast.walk(tree) if isinstance(node, ast.Attribute)}
+            for name in bound_names(tree):
+                self.assertTrue(re.fullmatch(r"_?[A-Za-z][A-Za-z0-9_]*|_|__[a-z]+__", name), (file, name))
+            self.assertFalse((bound_names(tree) | attributes) & UNUSED, file)
+
+    def test_methods(self):
+        """L25: methods of builtin values are only the listed ones."""
+        own = {name for file in files() for name in method_names(tree_of(file))}
+        for file in files():
+            for node in ast.walk(tree_of(file)):
+                if isinstance(node, ast.Call) and isinstance(node.func, ast.Attribute):
+                    self.assertIn(node.func.attr, METHODS | own, (file, node.lineno))
+
+    def test_strings(self):
+        """L27: no percent sign in a string."""
+        for file in files():
+            for node in ast.walk(tree_of(file)):
+                if isinstance(node, ast.Constant) and isinstance(node.value, str):
+                    self.assertNotIn("%", node.value, (file, node.lineno))
+
+
+if __name__ == "__main__":
+    unittest.main()
