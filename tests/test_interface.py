@@ -6,6 +6,16 @@ import unittest
 
 FUNCTIONS = {
     "notation": ["format_tree(tree)", "parse_tree(text)"],
+    "sizes": ["normal(values)", "top_sums(sizes)", "take(sizes, place)", "take_largest(sizes)",
+              "take_smallest(sizes)", "is_as_safe(first, second)", "conjugate(sizes)", "meet(first, second)",
+              "join(first, second)", "glue(first, second)", "levelled(total, piles, top)",
+              "grown_safest(sizes, extra)", "grown_riskiest(sizes, extra)"],
+    "orders": ["check_order(text)", "telling_order(total, count, limit)", "is_fair(order)",
+               "tails_kinder(first, second)", "hardest(pattern, *, raids=None)", "kindest(pattern, *, raids=None)"],
+    "rows": ["free_row(total)", "fits(sizes, row)", "first_break(sizes, row)", "keeper_step(row)",
+             "raider_step(row)", "pull(order, *, goal=())", "tail_rows(order, *, goal=())", "tight(row)",
+             "kinder(first, second)", "alike(first, second)"],
+    "classes": ["unlike_orders(total)", "order_for(row)"],
 }
 
 CLASSES = {
