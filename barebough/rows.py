@@ -86,6 +86,23 @@ def alike(first, second):
     return tight(pull(first)) == tight(pull(second))
 
 
+def need_turns(turns, total):
+    """Raise WrongLength if there are more turns than the sum of a size list."""
+    if turns > total:
+        raise WrongLength(turns, total)
+
+
+def due_goal(sizes, turns, goal):
+    """Return the bounds of a goal for what so many turns leave of a size list."""
+    total = sum(sizes)
+    need_turns(turns, total)
+    if goal is None:
+        return free_row(total - turns)
+    if len(goal) != total - turns:
+        raise WrongLength(len(goal), total - turns)
+    return list(goal)
+
+
 def _bounds_with_last(row):
     """Return the bounds of a row for S-1, at most S-1 each, and the one for k = S."""
     most = len(row)

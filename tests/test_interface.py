@@ -16,6 +16,11 @@ FUNCTIONS = {
              "raider_step(row)", "pull(order, *, goal=())", "tail_rows(order, *, goal=())", "tight(row)",
              "kinder(first, second)", "alike(first, second)"],
     "classes": ["unlike_orders(total)", "order_for(row)"],
+    "scripts": ["joined(first, second)"],
+    "reading": ["parse_script(text)"],
+    "fates": ["plain_play(sizes, order)", "hour(sizes, order)", "kept(sizes, order, *, goal=None)",
+              "kept_cells(tree, order)"],
+    "certificates": ["certificate(sizes, order, *, goal=None)", "bad_line(sizes, order, certificate, *, goal=None)"],
 }
 
 CLASSES = {
@@ -25,6 +30,8 @@ CLASSES = {
     "boards.Board": ["__init__(self, tree)", "live(self)", "tips(self)", "is_live(self, cell)",
                      "branches(self, cell)", "sizes(self, cell)", "pluck(self, cell)", "restore(self)",
                      "plucked(self)"],
+    "scripts.Script": ["row(self, *, goal=())", "keeps(self, sizes, *, goal=None)", "run_count(self)", "runs(self)",
+                       "losing_run(self, sizes, *, goal=None)"],
 }
 
 
