@@ -35,7 +35,7 @@ def take_smallest(sizes):
 
 def is_as_safe(first, second):
     """Tell whether no top sum of the first list is greater than that of the second."""
-    _need_even_sums(first, second)
+    need_even_sums(first, second)
     return all(one <= other for one, other in zip(top_sums(first), top_sums(second)))
 
 
@@ -47,7 +47,7 @@ def conjugate(sizes):
 
 def meet(first, second):
     """Return the riskiest size list that is as safe as both lists."""
-    _need_even_sums(first, second)
+    need_even_sums(first, second)
     tops = [min(one, other) for one, other in zip(top_sums(first), top_sums(second))]
     return normal([top - before for before, top in zip([0] + tops, tops)])
 
@@ -83,6 +83,7 @@ def grown_riskiest(sizes, extra):
     return normal([most + extra] + sizes[1:])
 
 
-def _need_even_sums(first, second):
+def need_even_sums(first, second):
+    """Raise UnevenSums if the size lists have different sums."""
     if sum(first) != sum(second):
         raise UnevenSums(sum(first), sum(second))

@@ -20,6 +20,10 @@ FUNCTIONS = {
     "reading": ["parse_script(text)"],
     "fates": ["plain_play(sizes, order)", "hour(sizes, order)", "kept(sizes, order, *, goal=None)",
               "kept_cells(tree, order)"],
+    "guides": ["keeper_pluck(board, cell)", "raider_pluck(board, cell)"],
+    "safety": ["order_against(first, second)", "refutation(sizes, place, letter)", "safest(tree)", "unbeaten(tree)"],
+    "tallies": ["count_orders(sizes)", "raid_counts(sizes)", "order_at(sizes, index)", "index_of(sizes, order)",
+                "fair_orders(total, raids)"],
     "certificates": ["certificate(sizes, order, *, goal=None)", "bad_line(sizes, order, certificate, *, goal=None)"],
 }
 
@@ -32,6 +36,10 @@ CLASSES = {
                      "plucked(self)"],
     "scripts.Script": ["row(self, *, goal=())", "keeps(self, sizes, *, goal=None)", "run_count(self)", "runs(self)",
                        "losing_run(self, sizes, *, goal=None)"],
+    "plays.Play": ["__init__(self, tree, cell)", "__iter__(self)", "turn(self, letter, cell)", "undo(self)",
+                   "advice(self, letter)", "order(self)", "sizes(self)", "live(self)", "is_over(self)",
+                   "has_fallen(self)", "slips(self)"],
+    "safety.Prober": ["__init__(self, total)", "question(self)", "answer(self, kept)", "found(self)", "asked(self)"],
 }
 
 

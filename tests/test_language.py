@@ -173,6 +173,40 @@ class Code(unittest.TestCase):
                 self.assertTrue(re.fullmatch(r"_?[A-Za-z][A-Za-z0-9_]*|_|__[a-z]+__", name), (file, name))
             self.assertFalse((bound_names(tree) | attributes) & UNUSED, file)
 
+    def test_imports_and_classes_keep_their_names(self):
+        """L15: nothing inside a function has the name of a class or an import of its file."""
+        for file in files():
+            tree = tree_of(file)
+            kept = {alias.name for node in tree.body if isinstance(node, ast.ImportFrom) for alias in node.names}
+            kept |= {node.name for node in tree.body if isinstance(node, ast.ClassDef)}
+            for function in ast.walk(tree):
+                if isinstance(function, ast.FunctionDef):
+                    inside = bound_names(function) - {function.name}
+                    self.assertFalse(inside & kept, (file, function.name))
+
+    def test_methods_and_attributes_have_different_names(self):
+        """L18: within one class, and within a class and its base classes in the same file."""
+        for file in files():
+            holders = {node.name: node for node in tree_of(file).body if isinstance(node, ast.ClassDef)}
+            for holder in holders.values():
+                family = [holder] + [holders[base.id] for base in holder.bases if base.id in holders]
+                methods = {node.name for one in family for node in one.body if isinstance(node, ast.FunctionDef)}
+                stored = {node.attr for one in family for node in ast.walk(one)
+                          if isinstance(node, ast.Attribute) and isinstance(node.ctx, ast.Store)}
+                self.assertFalse(methods & stored, (file, holder.name))
+
+    def test_the_library_is_only_called(self):
+        """L2: what is imported from the library is called by its bare name, without keywords."""
+        for file in files():
+            tree = tree_of(file)
+            names = {alias.name for node in tree.body if isinstance(node, ast.ImportFrom) and node.module in LIBRARY
+                     for alias in node.names}
+            calls = [node for node in ast.walk(tree) if isinstance(node, ast.Call) and not node.keywords]
+            called = [node.func for node in calls]
+            for node in ast.walk(tree):
+                if isinstance(node, ast.Name) and node.id in names:
+                    self.assertIn(node, called, (file, node.lineno))
+
     def test_methods(self):
         """L25: methods of builtin values are only the listed ones."""
         own = {name for file in files() for name in method_names(tree_of(file))}
