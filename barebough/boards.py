@@ -1,7 +1,7 @@
 """Boards, on which the cells of a tree are plucked."""
 
 from barebough.errors import LastCell, NotLive, NothingToUndo, NotTip
-from barebough.pieces import branches_at, piece_sizes
+from barebough.pieces import branches_at, neighbour_lists, piece_sizes
 
 
 class Board:
@@ -9,7 +9,7 @@ class Board:
 
     def __init__(self, tree):
         self.tree = tree
-        self._near = [tree.neighbours(cell) for cell in range(tree.size)]
+        self._near = neighbour_lists(tree)
         self._free = [True] * tree.size
         self._gone = []
 

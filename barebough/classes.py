@@ -6,7 +6,7 @@ from barebough.rows import tight, turn_step
 def unlike_orders(total):
     """Return a tuple (row, order, count) for each class of alike orders that keep a list."""
     found = {}
-    for order, pulled in _orders_with_rows(total):
+    for order, pulled in orders_with_rows(total):
         bounds = tight(pulled)
         if bounds is not None:
             first, count = found.get(tuple(bounds), (order, 0))
@@ -25,7 +25,7 @@ def order_for(row):
     return None
 
 
-def _orders_with_rows(total):
+def orders_with_rows(total):
     """Return all orders of so many turns in alphabetical order, each with its row."""
     pairs = [("", [])]
     for _ in range(total):

@@ -6,7 +6,7 @@ from barebough.errors import LastCell
 def keeper_pluck(board, cell):
     """Return the lowest live tip in a largest branch of the named cell."""
     # Branches stand in the order of their neighbours of the cell; the first one decides.
-    return _lowest_tip(board, max(_some_branches(board, cell), key=len))
+    return lowest_tip(board, max(_some_branches(board, cell), key=len))
 
 
 def raider_pluck(board, cell):
@@ -14,7 +14,12 @@ def raider_pluck(board, cell):
     branches = _some_branches(board, cell)
     if len(branches) == 1:
         return cell
-    return _lowest_tip(board, min(branches, key=len))
+    return lowest_tip(board, min(branches, key=len))
+
+
+def lowest_tip(board, cells):
+    """Return the lowest live tip of the board that is one of the cells."""
+    return min([tip for tip in board.tips() if tip in cells])
 
 
 def _some_branches(board, cell):
@@ -23,7 +28,3 @@ def _some_branches(board, cell):
     if not branches:
         raise LastCell(cell)
     return branches
-
-
-def _lowest_tip(board, branch):
-    return min([tip for tip in board.tips() if tip in branch])

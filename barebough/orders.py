@@ -61,6 +61,16 @@ def kindest(pattern, *, raids=None):
     return _filled(pattern, "R" * raids + "K" * (gaps - raids))
 
 
+def first_keeps_changed(order, many, letter):
+    """Return the order with its first so many letters K replaced by a letter or by nothing."""
+    return order.replace("K", letter, many)
+
+
+def last_raids_changed(order, many, letter):
+    """Return the order with its last so many letters R replaced by a letter or by nothing."""
+    return order[::-1].replace("R", letter, many)[::-1]
+
+
 def need_same_turns(first, second):
     """Raise WrongLength if the second order has not as many turns as the first."""
     if len(first) != len(second):

@@ -21,11 +21,37 @@ def piece_from(near, start, free):
     return sorted(found)
 
 
+def pieces_of(near, free):
+    """Return the pieces that the free cells form, in ascending order of their lowest cells."""
+    left = list(free)
+    found = []
+    for start in range(len(near)):
+        if left[start]:
+            piece = piece_from(near, start, left)
+            found.append(piece)
+            for cell in piece:
+                left[cell] = False
+    return found
+
+
 def branches_at(near, cell, free):
     """Return the pieces of the other free cells, one for each free neighbour of the cell."""
     others = list(free)
     others[cell] = False
     return [piece_from(near, start, others) for start in near[cell] if others[start]]
+
+
+def neighbour_lists(tree):
+    """Return the neighbours of every cell of a tree."""
+    return [tree.neighbours(cell) for cell in range(tree.size)]
+
+
+def marked(size, cells):
+    """Return a truth value for every cell: whether it is one of the given cells."""
+    marks = [False] * size
+    for cell in cells:
+        marks[cell] = True
+    return marks
 
 
 def piece_sizes(pieces):

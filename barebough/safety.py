@@ -3,7 +3,7 @@
 from barebough.errors import NoQuestion
 from barebough.orders import telling_order
 from barebough.rows import first_break
-from barebough.sizes import need_even_sums, take, take_largest, take_smallest, top_sums
+from barebough.sizes import is_safer_by_tops, need_even_sums, take, take_largest, take_smallest, top_sums
 
 
 def order_against(first, second):
@@ -92,9 +92,4 @@ def safest(tree):
 def unbeaten(tree):
     """Return the cells for which no cell has a safer size list."""
     tops = [top_sums(sizes) for sizes in tree.all_sizes()]
-    return [cell for cell, sums in enumerate(tops) if not any(_is_safer(other, sums) for other in tops)]
-
-
-def _is_safer(first, second):
-    """Tell whether the list with the first top sums is safer than that with the second."""
-    return first != second and all(one <= other for one, other in zip(first, second))
+    return [cell for cell, sums in enumerate(tops) if not any(is_safer_by_tops(other, sums) for other in tops)]

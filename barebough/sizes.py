@@ -39,6 +39,11 @@ def is_as_safe(first, second):
     return all(one <= other for one, other in zip(top_sums(first), top_sums(second)))
 
 
+def is_safer_by_tops(first, second):
+    """Tell whether the list with the first top sums is safer than that with the second."""
+    return first != second and all(one <= other for one, other in zip(first, second))
+
+
 def conjugate(sizes):
     """Return the numbers of entries that are greater than 0, than 1, and so on."""
     most = sizes[0] if sizes else 0

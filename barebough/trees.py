@@ -33,7 +33,14 @@ class Tree:
 
     def all_sizes(self):
         """Return the size lists of all cells, in the order of the cells."""
-        return [self.sizes(cell) for cell in range(self.size)]
+        sizes = [[] for _ in range(self.size)]
+        counts = [1] * self.size
+        for cell, above in self._steps_from_first()[::-1]:
+            # All cells below this one are counted by now; the others are its branch above.
+            sizes[cell].append(self.size - counts[cell])
+            sizes[above].append(counts[cell])
+            counts[above] += counts[cell]
+        return [sorted(entries, reverse=True) for entries in sizes]
 
     def path(self, start, end):
         """Return the cells of the path from start to end, both included."""
@@ -65,6 +72,17 @@ class Tree:
     def moved(self, tip, cell):
         """Return the tree in which the tip is joined to another cell; the numbers stay."""
         return Tree(self.size, self._links_without(tip) + [(tip, cell)])
+
+    def _steps_from_first(self):
+        """Return each other cell than 0 with the one that a walk from 0 reaches it from, in its order."""
+        steps = []
+        waiting = [(0, 0)]
+        while waiting:
+            cell, above = waiting.pop()
+            if cell != above:
+                steps.append((cell, above))
+            waiting.extend([(other, cell) for other in self._near[cell] if other != above])
+        return steps
 
     def _links_without(self, tip):
         if len(self._near[tip]) > 1:

@@ -24,6 +24,11 @@ FUNCTIONS = {
     "safety": ["order_against(first, second)", "refutation(sizes, place, letter)", "safest(tree)", "unbeaten(tree)"],
     "tallies": ["count_orders(sizes)", "raid_counts(sizes)", "order_at(sizes, index)", "index_of(sizes, order)",
                 "fair_orders(total, raids)"],
+    "spread": ["spread(tree)", "keeping_some(tree)"],
+    "regions": ["outer_sizes(tree, region)", "region_fate(tree, region, order)", "strongholds(tree, turns)",
+                "region_keeper_pluck(board, region)", "region_raider_pluck(board, region)"],
+    "reserves": ["reserves(tree, region)", "reserve_row(order, ends)", "stays_whole(tree, region, order)",
+                 "whole_keeper_pluck(board, region)", "whole_raider_pluck(board, region)"],
     "certificates": ["certificate(sizes, order, *, goal=None)", "bad_line(sizes, order, certificate, *, goal=None)"],
 }
 
@@ -39,6 +44,8 @@ CLASSES = {
     "plays.Play": ["__init__(self, tree, cell)", "__iter__(self)", "turn(self, letter, cell)", "undo(self)",
                    "advice(self, letter)", "order(self)", "sizes(self)", "live(self)", "is_over(self)",
                    "has_fallen(self)", "slips(self)"],
+    "listings.KeptLists": ["__init__(self, order)", "__iter__(self)", "__contains__(self, sizes)", "total(self)",
+                           "heaviest(self)"],
     "safety.Prober": ["__init__(self, total)", "question(self)", "answer(self, kept)", "found(self)", "asked(self)"],
 }
 
