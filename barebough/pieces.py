@@ -4,6 +4,23 @@ Here `near` is the list of the neighbours of every cell, and `free` has a truth
 value for every cell: True if the cell may be walked on.
 """
 
+from barebough.errors import BadTree
+
+
+def forest_lists(size, links):
+    """Return the neighbours of every cell in ascending order, or raise BadTree for a bad link."""
+    near = [[] for _ in range(size)]
+    # Two cells have the same mark exactly if the links so far join them by a path.
+    marks = list(range(size))
+    for index, (one, other) in enumerate(links):
+        if not (0 <= one < size and 0 <= other < size) or marks[one] == marks[other]:
+            raise BadTree(index)
+        old, new = marks[other], marks[one]
+        marks = [new if mark == old else mark for mark in marks]
+        near[one].append(other)
+        near[other].append(one)
+    return [sorted(cells) for cells in near]
+
 
 def piece_from(near, start, free):
     """Return the cells that can be reached from a free cell, in ascending order."""

@@ -30,9 +30,11 @@ def keeper_step(row):
     """Return the row for one more turn of Keeper in front."""
     bounds = _bounds_with_last(row)
     stepped = [bounds[0] + 1]
-    for count in range(1, len(bounds)):
-        before = bounds[count - 1]
-        stepped.append(min(bounds[count] + 1, before + 1 + before // count))
+    for count, before in enumerate(bounds[:-1], start=1):
+        bound = bounds[count]
+        shared = before + before // count
+        # A script comes here for each bound of each of its rows, and min() would be slow.
+        stepped.append((bound if bound < shared else shared) + 1)
     return stepped
 
 
@@ -65,10 +67,14 @@ def turn_step(letter, row):
 
 def tight(row):
     """Return the greatest top sums of the size lists that fit the row, or None."""
-    total = len(row)
-    if not fits([1] * total, row):
+    if not some_list_fits(row):
         return None
-    return [_greatest_top(row, piles) for piles in range(1, total + 1)]
+    return [_greatest_top(row, piles) for piles in range(1, len(row) + 1)]
+
+
+def some_list_fits(row):
+    """Tell whether the safest size list, and so any list at all, fits the row."""
+    return fits([1] * len(row), row)
 
 
 def kinder(first, second):
@@ -106,7 +112,7 @@ def due_goal(sizes, turns, goal):
 def _bounds_with_last(row):
     """Return the bounds of a row for S-1, at most S-1 each, and the one for k = S."""
     most = len(row)
-    return [min(bound, most) for bound in row] + [most]
+    return [bound if bound < most else most for bound in row] + [most]
 
 
 def _greatest_top(row, piles):

@@ -1,9 +1,11 @@
 """Scripts: sets of orders with conditions on the way.
 
 A script consists of parts: turns, demands, choices and sequences of parts. Every part
-has its numbers `turns` and `length`, and the methods `pulled`, `run_count`, `runs` and
+has its numbers `turns` and `length`, and the methods `trail`, `run_count`, `runs` and
 `lost_run`. A row that a part is passed is the row behind it: the bounds that the rest of
-the script sets for what the part leaves. Parts never change, so scripts may share them.
+the script sets for what the part leaves. A trail is a tuple of the row that the part turns
+this into, and the list of the trails of the parts inside. It is made once, so that a walk
+through the script need not pull a row again. Parts never change, so scripts may share them.
 """
 
 from barebough.errors import TooLarge
@@ -30,6 +32,10 @@ class Step:
     def runs(self):
         """Return the runs of the part."""
         return [self.text]
+
+    def trail(self, row):
+        """Return the row that the part turns the row behind it into, and no inner trails."""
+        return self.pulled(row), []
 
     def lost_run(self, sizes, _):
         """Return the run and what it leaves of the size list, None if that is lost by then."""
@@ -82,10 +88,11 @@ class Choice:
         self.length = 1 + sum([part.length for part in alternatives])
         self._alternatives = list(alternatives)
 
-    def pulled(self, row):
-        """Return the row that the part turns the row behind it into."""
-        rows = [part.pulled(row) for part in self._alternatives]
-        return [min(bounds) for bounds in zip(*rows)]
+    def trail(self, row):
+        """Return the row that the part turns the row behind it into, and the inner trails."""
+        trails = [part.trail(row) for part in self._alternatives]
+        rows = [front for front, _ in trails]
+        return [min(bounds) for bounds in zip(*rows)], trails
 
     def run_count(self):
         """Return the number of the runs of the part."""
@@ -95,10 +102,12 @@ class Choice:
         """Return the runs of the part."""
         return [run for part in self._alternatives for run in part.runs()]
 
-    def lost_run(self, sizes, row):
+    def lost_run(self, sizes, trail):
         """Return the first lost run of a lost size list, and what it leaves, as in a step."""
-        lost = [part for part in self._alternatives if sizes is None or not fits(sizes, part.pulled(row))]
-        return lost[0].lost_run(sizes, row)
+        inner = zip(self._alternatives, trail[1])
+        lost = [(part, way) for part, way in inner if sizes is None or not fits(sizes, way[0])]
+        part, way = lost[0]
+        return part.lost_run(sizes, way)
 
 
 class Sequence:
@@ -110,9 +119,15 @@ class Sequence:
         self.length = times * sum([part.length for part in parts])
         self._times = times
 
-    def pulled(self, row):
-        """Return the row that the part turns the row behind it into."""
-        return self._rows(row)[0]
+    def trail(self, row):
+        """Return the row that the part turns the row behind it into, and the inner trails."""
+        trails = []
+        front = row
+        for part in (self.parts * self._times)[::-1]:
+            way = part.trail(front)
+            trails.append(way)
+            front = way[0]
+        return front, trails[::-1]
 
     def run_count(self):
         """Return the number of the runs of the part."""
@@ -128,23 +143,16 @@ class Sequence:
             found = [run + [text] for run in found for text in texts]
         return ["".join(run) for run in found]
 
-    def lost_run(self, sizes, row):
+    def lost_run(self, sizes, trail):
         """Return the first lost run of a lost size list, and what it leaves, as in a step."""
         # The plain play is best for both sides whatever follows, so what it leaves of the
         # size list tells whether some run that begins as the text so far is lost.
         texts = []
         left = sizes
-        for part, behind in zip(self.parts * self._times, self._rows(row)[1:]):
-            text, left = part.lost_run(left, behind)
+        for part, way in zip(self.parts * self._times, trail[1]):
+            text, left = part.lost_run(left, way)
             texts.append(text)
         return "".join(texts), left
-
-    def _rows(self, row):
-        """Return the rows in front of the parts, and the row behind the last one."""
-        rows = [row]
-        for part in (self.parts * self._times)[::-1]:
-            rows.append(part.pulled(rows[-1]))
-        return rows[::-1]
 
 
 class Script:
@@ -157,11 +165,11 @@ class Script:
 
     def row(self, *, goal=()):
         """Return the row that is pulled back through the script from the goal."""
-        return self._whole.pulled(list(goal))
+        return self._whole.trail(list(goal))[0]
 
     def keeps(self, sizes, *, goal=None):
         """Tell whether the size list is kept under the script with the goal."""
-        return fits(sizes, self._whole.pulled(due_goal(sizes, self.turns, goal)))
+        return self.losing_run(sizes, goal=goal) is None
 
     def run_count(self):
         """Return the number of the runs."""
@@ -176,10 +184,10 @@ class Script:
 
     def losing_run(self, sizes, *, goal=None):
         """Return the first run under which the size list is lost, or None if it is kept."""
-        bounds = due_goal(sizes, self.turns, goal)
-        if fits(sizes, self._whole.pulled(bounds)):
+        trail = self._whole.trail(due_goal(sizes, self.turns, goal))
+        if fits(sizes, trail[0]):
             return None
-        return self._whole.lost_run(sizes, bounds)[0]
+        return self._whole.lost_run(sizes, trail)[0]
 
     def followed_by(self, other):
         """Return the script of the texts of both scripts."""

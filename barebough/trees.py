@@ -1,7 +1,7 @@
 """Trees of cells that are joined by links."""
 
 from barebough.errors import BadTree, LastCell, NotTip
-from barebough.pieces import branches_at, piece_sizes
+from barebough.pieces import branches_at, forest_lists, piece_sizes
 
 
 class Tree:
@@ -9,7 +9,10 @@ class Tree:
 
     def __init__(self, size, links):
         self.size = size
-        self._near = _neighbour_lists(size, links)
+        self._near = forest_lists(size, links)
+        # Each good link joins two pieces, so fewer than size-1 of them leave several.
+        if len(links) < size - 1:
+            raise BadTree(len(links))
 
     def links(self):
         """Return all links as tuples (lower cell, higher cell), in ascending order."""
@@ -93,21 +96,3 @@ class Tree:
 def _closed_up(cell, gone):
     """Return the number of a cell after another one has been left out."""
     return cell - 1 if cell > gone else cell
-
-
-def _neighbour_lists(size, links):
-    """Return the neighbours of every cell in ascending order, or raise BadTree."""
-    near = [[] for _ in range(size)]
-    # Two cells have the same mark exactly if the links so far join them by a path.
-    marks = list(range(size))
-    for index, (one, other) in enumerate(links):
-        if not (0 <= one < size and 0 <= other < size) or marks[one] == marks[other]:
-            raise BadTree(index)
-        old, new = marks[other], marks[one]
-        marks = [new if mark == old else mark for mark in marks]
-        near[one].append(other)
-        near[other].append(one)
-    # Each good link joins two pieces, so fewer than size-1 of them leave several.
-    if len(links) < size - 1:
-        raise BadTree(len(links))
-    return [sorted(cells) for cells in near]

@@ -29,6 +29,13 @@ FUNCTIONS = {
                 "region_keeper_pluck(board, region)", "region_raider_pluck(board, region)"],
     "reserves": ["reserves(tree, region)", "reserve_row(order, ends)", "stays_whole(tree, region, order)",
                  "whole_keeper_pluck(board, region)", "whole_raider_pluck(board, region)"],
+    "woods": ["struck(order, *, spares=0, layers=1)", "wood_kept(wood, cell, order)",
+              "wood_keeper_pluck(wood, left, cell)", "wood_raider_pluck(wood, left, cell)"],
+    "webs": ["web_kept(web, cell, order)"],
+    "changes": ["mend(sizes, order)", "mend_tree(tree, cell, order)", "gifts(sizes, order)",
+                "spare_turns(sizes, order)"],
+    "commands": ["split_line(line)"],
+    "desk": ["replay(lines)"],
     "certificates": ["certificate(sizes, order, *, goal=None)", "bad_line(sizes, order, certificate, *, goal=None)"],
 }
 
@@ -46,6 +53,12 @@ CLASSES = {
                    "has_fallen(self)", "slips(self)"],
     "listings.KeptLists": ["__init__(self, order)", "__iter__(self)", "__contains__(self, sizes)", "total(self)",
                            "heaviest(self)"],
+    "woods.Wood": ["__init__(self, size, links, layers)", "total(self)", "layers(self)", "spares(self, cell)",
+                   "layer_sizes(self, cell)", "loose(self, left)"],
+    "webs.Web": ["__init__(self, size, links)", "neighbours(self, cell)", "loose(self, live)", "pieces(self, cell)",
+                 "sizes(self, cell)", "blocks(self)", "is_sound(self)", "flaw(self)"],
+    "desk.Desk": ["__init__(self)", "__iter__(self)", "run(self, line)", "run_all(self, lines)", "undo(self)",
+                  "redo(self)", "journal(self)", "names(self)"],
     "safety.Prober": ["__init__(self, total)", "question(self)", "answer(self, kept)", "found(self)", "asked(self)"],
 }
 
