@@ -215,6 +215,45 @@ class Code(unittest.TestCase):
                 if isinstance(node, ast.Call) and isinstance(node.func, ast.Attribute):
                     self.assertIn(node.func.attr, METHODS | own, (file, node.lineno))
 
+    def test_iterated_at_once(self):
+        """L23: what is only iterated over is not passed to own functions, returned or stored in an object."""
+        takers = set("list tuple dict sorted sum any all enumerate zip min max len reversed".split())
+        for file in files():
+            tree = tree_of(file)
+            good = []
+            for node in ast.walk(tree):
+                if isinstance(node, (ast.For, ast.comprehension)):
+                    good.append(node.iter)
+                elif isinstance(node, ast.Call) and isinstance(node.func, ast.Name) and node.func.id in takers:
+                    good += node.args
+                elif isinstance(node, ast.Assign) and isinstance(node.targets[0], ast.Name):
+                    good.append(node.value)
+                elif isinstance(node, ast.Compare):
+                    good += node.comparators
+            for node in ast.walk(tree):
+                if isinstance(node, ast.Call):
+                    name = node.func.id if isinstance(node.func, ast.Name) else getattr(node.func, "attr", "")
+                    if name in ("range", "zip", "enumerate", "reversed", "items", "keys", "values"):
+                        self.assertIn(node, good, (file, node.lineno))
+
+    def test_operators_call_nothing_of_their_own(self):
+        """L5: an operator changes nothing; those of this package do without own functions and methods."""
+        operators = {"__contains__", "__lt__", "__eq__", "__len__", "__add__", "__bool__", "__getitem__"}
+        for file in files():
+            for node in ast.walk(tree_of(file)):
+                if isinstance(node, ast.FunctionDef) and node.name in operators:
+                    for part in ast.walk(node):
+                        self.assertNotIsInstance(part, (ast.Assign, ast.AugAssign, ast.Delete), (file, node.name))
+                        if isinstance(part, ast.Call):
+                            self.assertIn(getattr(part.func, "id", ""), BUILTINS, (file, node.name))
+
+    def test_sorted_takes_lists(self):
+        """L5: in a package with an operator, `sorted` takes no generator expression."""
+        for file in files():
+            for node in ast.walk(tree_of(file)):
+                if isinstance(node, ast.Call) and getattr(node.func, "id", "") == "sorted":
+                    self.assertNotIsInstance(node.args[0], ast.GeneratorExp, (file, node.lineno))
+
     def test_strings(self):
         """L27: no percent sign in a string."""
         for file in files():
