@@ -42,7 +42,7 @@ class Tree:
             # All cells below this one are counted by now; the others are its branch above.
             sizes[cell].append(self.size - counts[cell])
             sizes[above].append(counts[cell])
-            counts[above] += counts[cell]
+            counts[above] = counts[above] + counts[cell]
         return [sorted(entries, reverse=True) for entries in sizes]
 
     def path(self, start, end):

@@ -236,6 +236,21 @@ class Code(unittest.TestCase):
                     if name in ("range", "zip", "enumerate", "reversed", "items", "keys", "values"):
                         self.assertIn(node, good, (file, node.lineno))
 
+    def test_nothing_grows_by_what_it_changes(self):
+        """L23: `extend`, `update`, `+=` and `|=` get nothing that is taken out of what they change."""
+        for file in files():
+            for node in ast.walk(tree_of(file)):
+                if isinstance(node, ast.AugAssign):
+                    changed, taken = node.target, [node.value]
+                elif isinstance(node, ast.Call) and getattr(node.func, "attr", "") in ("extend", "update"):
+                    changed, taken = node.func.value, node.args
+                else:
+                    continue
+                while isinstance(changed, ast.Subscript):
+                    changed = changed.value
+                parts = [ast.unparse(part) for value in taken for part in ast.walk(value)]
+                self.assertNotIn(ast.unparse(changed), parts, (file, node.lineno))
+
     def test_operators_call_nothing_of_their_own(self):
         """L5: an operator changes nothing; those of this package do without own functions and methods."""
         operators = {"__contains__", "__lt__", "__eq__", "__len__", "__add__", "__bool__", "__getitem__"}

@@ -112,6 +112,7 @@ class Asking(unittest.TestCase):
             tree = Tree(8, links)
             self.assertEqual(tree.sizes(0), sizes)
             self.assertEqual([sum(one) for one in tree.all_sizes()], [7] * 8)
+            self.assertEqual(tree.all_sizes(), [tree.sizes(cell) for cell in range(8)])
 
     def test_paths(self):
         self.assertEqual(self.tree.path(0, 5), [0, 1, 3, 5])
